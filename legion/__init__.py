@@ -1,0 +1,1 @@
+"""Legion: races and broken checks of threads, for any number of threads at once."""

@@ -1,0 +1,115 @@
+"""Programs and helpers that several tests use."""
+
+import copy
+
+from legion.errors import BadProgram
+from legion.program import check_program
+
+# One statement of each form, nested, with every sort of name, value and condition.
+FULL_BODY = [
+    ("skip",),
+    ("set", "x", ("+", "v", -1)),
+    ("set", "v", ("*", ("-", "x", 99), 2)),
+    ("acquire", "l"),
+    ("if", ("not", ("<", "x", 1)), [("release", "l")], [("wake", "b"), ("release", "l")]),
+    ("rest", "b"),
+    ("start", "k"),
+    ("check", ("and", True, ("=", "v", "x"))),
+    ("await", ("or", False, ("<=", 0, "v"))),
+    ("mark", "here"),
+    ("loop", True, [("choose", [[], [("skip",)], [("loop", False, [])]])]),
+    ("if", False, [], []),
+]
+
+FULL_TEXT = """\
+share x 0 3 1
+lock l
+lock m
+bell b
+kind c any
+  local v -1 1 0
+  skip
+  set x + v -1
+  set v * - x 99 2
+  acquire l
+  if not < x 1
+    release l
+  else
+    wake b
+    release l
+  end
+  rest b
+  start k
+  check and true = v x
+  await or false <= 0 v
+  mark here
+  loop true
+    choose
+    or
+      skip
+    or
+      loop false
+      end
+    end
+  end
+  if false
+  else
+  end
+end
+kind k 2
+  local w 0 1 1
+  skip
+end
+"""
+
+
+def with_body(body):
+    """A program whose crew has the given body."""
+    return (
+        [("x", 0, 3, 1)],
+        ["l", "m"],
+        ["b"],
+        [
+            ("c", None, [("v", -1, 1, 0)], body),
+            ("k", 2, [("w", 0, 1, 1)], [("skip",)]),
+        ],
+    )
+
+
+def kind_with(body):
+    """A kind with the given body."""
+    return ("c", None, [("v", -1, 1, 0)], body)
+
+
+def full_program():
+    """A valid program with everything that may occur in one."""
+    return with_body(copy.deepcopy(FULL_BODY))
+
+
+def nested(depth, wrap, core):
+    """The core, wrapped so often."""
+    for _ in range(depth):
+        core = wrap(core)
+    return core
+
+
+def is_valid(program):
+    """Whether check_program accepts a program; any other error is not caught."""
+    try:
+        return check_program(program) is None
+    except BadProgram:
+        return False
+
+
+def accepts(case, program, note=""):
+    """Fail if check_program refuses the program, or does not return None."""
+    try:
+        case.assertIsNone(check_program(program), note)
+    except BadProgram as error:
+        case.fail(f"refused with: {error}; {note}")
+
+
+def refuses(case, program, note=""):
+    """Fail if check_program does not raise BadProgram."""
+    with case.assertRaises(BadProgram, msg=note):
+        check_program(program)
