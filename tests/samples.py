@@ -93,14 +93,6 @@ def nested(depth, wrap, core):
     return core
 
 
-def is_valid(program):
-    """Whether check_program accepts a program; any other error is not caught."""
-    try:
-        return check_program(program) is None
-    except BadProgram:
-        return False
-
-
 def accepts(case, program, note=""):
     """Fail if check_program refuses the program, or does not return None."""
     try:
