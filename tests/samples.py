@@ -2,7 +2,9 @@
 
 import copy
 
-from legion.errors import BadProgram
+from legion.errors import BadProgram, LegionError
+from legion.machine import check_machine, compile_program
+from legion.notation import format_program, parse_program
 from legion.program import check_program
 
 # One statement of each form, nested, with every sort of name, value and condition.
@@ -94,14 +96,44 @@ def nested(depth, wrap, core):
 
 
 def accepts(case, program, note=""):
-    """Fail if check_program refuses the program, or does not return None."""
+    """Fail if the program is refused somewhere, or is not read back as it is written."""
     try:
         case.assertIsNone(check_program(program), note)
-    except BadProgram as error:
-        case.fail(f"refused with: {error}; {note}")
+        case.assertIsNone(check_machine(compile_program(program)), note)
+        again = parse_program(format_program(program))
+    except LegionError as error:
+        case.fail(f"refused with: {error!r}; {note}")
+    # 1 and True are equal for Python, but not as they are shown.
+    case.assertEqual(repr(again), repr(program), note)
 
 
 def refuses(case, program, note=""):
-    """Fail if check_program does not raise BadProgram."""
-    with case.assertRaises(BadProgram, msg=note):
-        check_program(program)
+    """Fail if check_program or compile_program does not raise BadProgram."""
+    for function in [check_program, compile_program]:
+        with case.assertRaises(BadProgram, msg=note):
+            function(program)
+
+
+
+def lists_within(thing):
+    """All lists in a thing that consists of tuples, lists and dicts, each as often as it occurs."""
+    found = [thing] if isinstance(thing, (list, dict)) else []
+    if isinstance(thing, dict):
+        thing = list(thing.values())
+    if isinstance(thing, (list, tuple)):
+        for part in thing:
+            found.extend(lists_within(part))
+    return found
+
+
+def new_lists(case, returned, *passed):
+    """Fail if a list occurs at two places of what is returned, or is one that was passed."""
+    marks = [id(one) for one in lists_within(returned)]
+    case.assertEqual(len(marks), len(set(marks)))
+    case.assertFalse(set(marks) & {id(one) for one in lists_within(passed)})
+
+
+def spoil(thing):
+    """Change all lists and dicts in a thing."""
+    for one in lists_within(thing):
+        one.clear()

@@ -23,6 +23,28 @@ INTERFACE = {
         "steps_of": ["kind"], "points_of": ["kind"], "marks_of": ["kind"], "held_at": ["kind"],
         "lines_of": ["kind"],
     },
+    "notation": {"format_program": ["program"], "parse_program": ["text"]},
+    "machine": {
+        "Layout": ["program"], "compile_program": ["program"], "check_machine": ["machine"],
+    },
+    "runs": {
+        "start_with": ["machine", "crew"], "is_possible": ["machine", "situation", "move"],
+        "after": ["machine", "situation", "move"], "possible_moves": ["machine", "situation"],
+        "follow": ["machine", "situation", "run"],
+        "scheduled": ["machine", "situation", "schedule"],
+        "situations": ["machine", "situation", "run"],
+    },
+    "order": {
+        "covers": ["first", "second"], "least_ones": ["situations"],
+        "is_above": ["situation", "basis"],
+    },
+}
+
+METHODS = {
+    "Layout": {
+        "state_number": ["self", "values", "held"], "state_values": ["self", "number"],
+        "place_number": ["self", "kind", "point", "values"], "place_values": ["self", "number"],
+    },
 }
 
 ALLOWED_FROM_OUTSIDE = ["heapq", "math", "itertools", "collections"]
@@ -44,6 +66,16 @@ class Interface(unittest.TestCase):
                 self.assertEqual(found.__module__, "legion." + module_name, name)
                 if arguments is not None:
                     self.assertEqual(list(inspect.signature(found).parameters), arguments, name)
+
+    def test_methods(self):
+        for class_name, methods in METHODS.items():
+            found = [getattr(importlib.import_module("legion." + module_name), class_name)
+                     for module_name, names in INTERFACE.items() if class_name in names]
+            self.assertEqual(len(found), 1, class_name)
+            for name, arguments in methods.items():
+                self.assertIn(name, vars(found[0]), class_name)
+                parameters = inspect.signature(vars(found[0])[name]).parameters
+                self.assertEqual(list(parameters), arguments, name)
 
     def test_defined_in_their_files(self):
         defined = {}
