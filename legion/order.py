@@ -1,5 +1,7 @@
 """The order of situations: which ones cover others, and which are the least ones."""
 
+from legion.floor import Floor
+
 
 def covers(first, second):
     """Return True if the first situation covers the second one, otherwise False."""
@@ -13,19 +15,19 @@ def covers(first, second):
 
 def least_ones(situations):
     """Return the situations that cover no other one, each once, in ascending order."""
+    by_threads = {}
+    for state, counts in situations:
+        by_threads.setdefault(sum(counts), {})[(state, tuple(counts))] = True
     least = []
-    rivals = []
-    state = None
-    # A situation comes behind all others that it covers, and behind those equal to it.
-    for situation in sorted(situations):
-        if situation[0] != state:
-            state = situation[0]
-            rivals = []
-        if not is_above(situation, rivals):
-            kept = (state, list(situation[1]))
-            least.append(kept)
-            rivals.append(kept)
-    return least
+    floor = Floor([])
+    # A situation has more threads than each other one that it covers.
+    for threads in sorted(by_threads):
+        rivals = [(state, list(counts)) for state, counts in by_threads[threads]]
+        fresh = [situation for situation in rivals if not floor.is_under(situation)]
+        for situation in fresh:
+            floor.keep(situation)
+        least.extend(fresh)
+    return sorted(least)
 
 
 def is_above(situation, basis):

@@ -7,24 +7,11 @@ import unittest
 from legion.order import covers, is_above, least_ones
 from tests.makers import Roller
 from tests.samples import new_lists, spoil
+from tests.slowly import least_by_words
 
 ALL_SMALL = [
     (state, list(counts)) for state in range(2) for counts in itertools.product(range(3), repeat=2)
 ]
-
-
-def least_by_words(situations):
-    """The least ones, as the point says it word by word."""
-    kept = []
-    for one in situations:
-        others = [other for other in situations if other != one]
-        covered = [
-            other for other in others
-            if other[0] == one[0] and all(a >= b for a, b in zip(one[1], other[1]))
-        ]
-        if not covered and one not in kept:
-            kept.append(one)
-    return sorted(kept)
 
 
 def rolled(roller, many, places=3, most=4, states=2):

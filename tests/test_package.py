@@ -38,6 +38,21 @@ INTERFACE = {
         "covers": ["first", "second"], "least_ones": ["situations"],
         "is_above": ["situation", "basis"],
     },
+    "back": {
+        "predecessors": ["machine", "move", "situation"],
+        "layers": ["machine", "bad", "*", "fuel"],
+    },
+    "certificate": {
+        "is_certificate": ["machine", "bad", "chosen"], "least_crew": ["machine", "chosen"],
+    },
+    "answer": {
+        "shortest_run": ["machine", "found", "situation"],
+        "decide": ["machine", "bad", "*", "fuel=100"],
+    },
+    "ahead": {
+        "wide_covers": ["first", "second"], "wide_after": ["machine", "situation", "move"],
+        "explore": ["machine", "*", "fuel"], "is_closed": ["machine", "chosen"],
+    },
 }
 
 METHODS = {
@@ -48,6 +63,12 @@ METHODS = {
 }
 
 ALLOWED_FROM_OUTSIDE = ["heapq", "math", "itertools", "collections"]
+
+
+def arguments_of(function):
+    """The arguments as they are written: a star stands before those passed by keyword."""
+    text = str(inspect.signature(function))[1:-1]
+    return text.split(", ") if text else []
 
 
 def sources():
@@ -65,7 +86,7 @@ class Interface(unittest.TestCase):
                 found = getattr(module, name)
                 self.assertEqual(found.__module__, "legion." + module_name, name)
                 if arguments is not None:
-                    self.assertEqual(list(inspect.signature(found).parameters), arguments, name)
+                    self.assertEqual(arguments_of(found), arguments, name)
 
     def test_methods(self):
         for class_name, methods in METHODS.items():
@@ -74,8 +95,7 @@ class Interface(unittest.TestCase):
             self.assertEqual(len(found), 1, class_name)
             for name, arguments in methods.items():
                 self.assertIn(name, vars(found[0]), class_name)
-                parameters = inspect.signature(vars(found[0])[name]).parameters
-                self.assertEqual(list(parameters), arguments, name)
+                self.assertEqual(arguments_of(vars(found[0])[name]), arguments, name)
 
     def test_defined_in_their_files(self):
         defined = {}

@@ -18,6 +18,7 @@ from legion.runs import (
 )
 from tests.makers import machines, programs
 from tests.samples import full_program, new_lists, spoil
+from tests.slowly import moved
 
 # Two shared states and four places.
 MACHINE = (2, 4, (0, [0, 0, 2, 0]), 1, [
@@ -29,25 +30,6 @@ MACHINE = (2, 4, (0, [0, 0, 2, 0]), 1, [
     (0, 1, 1, 3, None, []),
     (1, 2, 1, 2, 2, [(2, 3)]),
 ])
-
-
-def thread_list(situation):
-    """The place of each thread, in ascending order."""
-    return [place for place, count in enumerate(situation[1]) for _ in range(count)]
-
-
-def moved(machine, situation, move):
-    """The situation after a move, made thread by thread, or None."""
-    state, place, next_state, next_place, started, shifts = move
-    threads = thread_list(situation)
-    if situation[0] != state or place not in threads:
-        return None
-    threads.remove(place)
-    threads = [dict(shifts).get(thread, thread) for thread in threads]
-    threads.append(next_place)
-    if started is not None:
-        threads.append(started)
-    return (next_state, [threads.count(at) for at in range(machine[1])])
 
 
 class Start(unittest.TestCase):

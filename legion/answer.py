@@ -1,0 +1,68 @@
+"""Answers: whether threads can reach bad situations, and how."""
+
+from legion.back import searched
+from legion.certificate import least_crew
+from legion.errors import NotPossible
+from legion.floor import Floor
+from legion.order import is_above
+from legion.runs import after, copied, possible_moves, start_with
+
+
+def shortest_run(machine, found, situation):
+    """Return the shortest run, the least of several, to a situation that covers a bad one.
+
+    found is a list of layers, or a beginning of it.
+    """
+    if not is_above(situation, found[-1]):
+        raise NotPossible("no run as short as these layers leads to a bad situation")
+    return run_down(machine, news_of(found), situation)
+
+
+def decide(machine, bad, *, fuel=100):
+    """Return the answer to a list of bad situations."""
+    rows = searched(machine, bad, fuel)
+    if rows is None:
+        return ("unknown",)
+    basis = [copied(situation) for situation in rows[-1][0]]
+    crew = least_crew(machine, basis)
+    if crew is None:
+        return ("never", basis)
+    run = run_down(machine, [fresh for _, fresh in rows], start_with(machine, crew))
+    return ("possible", crew, run, basis)
+
+
+def news_of(found):
+    """Return for each layer the list of the elements that the layer before has not."""
+    news = []
+    before = {}
+    for layer in found:
+        now = {(state, tuple(counts)): True for state, counts in layer}
+        news.append([(state, list(counts)) for state, counts in now if (state, counts) not in before])
+        before = now
+    return news
+
+
+def run_down(machine, news, situation):
+    """Return the least of the shortest runs from a situation to one above layer 0.
+
+    news has for each layer what is new in it; the situation is above one of the layers.
+    """
+    left = [is_above(situation, fresh) for fresh in news].index(True)
+    now = situation
+    run = []
+    # A situation with so many moves left is above that layer, and above none before:
+    # so it covers an element that is new there.
+    while left > 0:
+        left -= 1
+        move = first_move_above(machine, now, Floor(news[left]))
+        run.append(move)
+        now = after(machine, now, move)
+    return run
+
+
+def first_move_above(machine, situation, floor):
+    """Return the first possible move that leads to a situation above a floor."""
+    for move in possible_moves(machine, situation):
+        if floor.is_under(after(machine, situation, move)):
+            return move
+    raise NotPossible("no move leads to the next layer")
