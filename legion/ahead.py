@@ -107,7 +107,7 @@ class Explorer:
         for at, wide in enumerate(self.explored):
             # Those before it do not cover it: otherwise it would have been dropped.
             if not is_covered(wide, self.explored[at + 1:]):
-                greatest.append((wide[0], list(wide[1])))
+                greatest.append(wide)
         return sorted(greatest, key=rank_of_wide)
 
 

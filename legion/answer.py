@@ -3,9 +3,9 @@
 from legion.back import searched
 from legion.certificate import least_crew
 from legion.errors import NotPossible
-from legion.floor import Floor
+from legion.floor import Floor, packed
 from legion.order import is_above
-from legion.runs import after, copied, possible_moves, start_with
+from legion.runs import after, possible_moves, start_with
 
 
 def shortest_run(machine, found, situation):
@@ -23,7 +23,7 @@ def decide(machine, bad, *, fuel=100):
     rows = searched(machine, bad, fuel)
     if rows is None:
         return ("unknown",)
-    basis = [copied(situation) for situation in rows[-1][0]]
+    basis = rows[-1][0]
     crew = least_crew(machine, basis)
     if crew is None:
         return ("never", basis)
@@ -32,12 +32,15 @@ def decide(machine, bad, *, fuel=100):
 
 
 def news_of(found):
-    """Return for each layer the list of the elements that the layer before has not."""
+    """Return for each layer the list of what is new in it, packed.
+
+    The whole layers would do, too, but it takes longer to go through them.
+    """
     news = []
     before = {}
     for layer in found:
-        now = {(state, tuple(counts)): True for state, counts in layer}
-        news.append([(state, list(counts)) for state, counts in now if (state, counts) not in before])
+        now = {packed(situation): True for situation in layer}
+        news.append([one for one in now if one not in before])
         before = now
     return news
 
@@ -45,16 +48,17 @@ def news_of(found):
 def run_down(machine, news, situation):
     """Return the least of the shortest runs from a situation to one above layer 0.
 
-    news has for each layer what is new in it; the situation is above one of the layers.
+    news has for each layer what is new in it, packed; the situation is above one of the layers.
     """
-    left = [is_above(situation, fresh) for fresh in news].index(True)
+    floors = [Floor(fresh) for fresh in news]
+    left = [floor.is_under(packed(situation)) for floor in floors].index(True)
     now = situation
     run = []
     # A situation with so many moves left is above that layer, and above none before:
     # so it covers an element that is new there.
     while left > 0:
         left -= 1
-        move = first_move_above(machine, now, Floor(news[left]))
+        move = first_move_above(machine, now, floors[left])
         run.append(move)
         now = after(machine, now, move)
     return run
@@ -63,6 +67,6 @@ def run_down(machine, news, situation):
 def first_move_above(machine, situation, floor):
     """Return the first possible move that leads to a situation above a floor."""
     for move in possible_moves(machine, situation):
-        if floor.is_under(after(machine, situation, move)):
+        if floor.is_under(packed(after(machine, situation, move))):
             return move
     raise NotPossible("no move leads to the next layer")

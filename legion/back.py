@@ -1,7 +1,7 @@
 """Searching backwards: the predecessors of situations, and the layers of bad ones."""
 
 from legion.errors import OutOfRange
-from legion.floor import Floor
+from legion.floor import Floor, packed, unpacked
 from legion.order import least_ones
 from legion.runs import copied, move_at
 
@@ -11,9 +11,9 @@ MOST_ELEMENTS = 2000
 def predecessors(machine, move, situation):
     """Return the ascending list of the predecessors by the move with this index."""
     gatherer = Gatherer(Floor([]), None)
-    gatherer.gather(move_at(machine, move), situation)
+    gatherer.gather(move_at(machine, move), packed(situation))
     gatherer.settle()
-    return sorted(gatherer.found)
+    return sorted([unpacked(one, machine[1]) for one in gatherer.found])
 
 
 def layers(machine, bad, *, fuel):
@@ -25,7 +25,7 @@ def layers(machine, bad, *, fuel):
 
 
 def searched(machine, bad, fuel):
-    """Return a pair for each layer: the layer, and what is new in it; or None.
+    """Return a pair for each layer: the layer, and, packed, what is new in it; or None.
 
     Here several layers hold the same situations.
     """
@@ -33,43 +33,45 @@ def searched(machine, bad, fuel):
         raise OutOfRange("there is no fuel below 0")
     moves = moves_by_target(machine)
     layer = least_ones(bad)
-    floor = Floor(layer)
-    rows = [(layer, layer)]
+    fresh = [packed(situation) for situation in layer]
+    floor = Floor(fresh)
+    rows = [(layer, fresh)]
     for _ in range(fuel):
         if len(layer) > MOST_ELEMENTS:
             return None
         # The predecessors of what is not new are above this layer already.
-        fresh = fresh_ones(moves, floor, rows[-1][1], MOST_ELEMENTS)
+        fresh = fresh_ones(moves, floor, fresh, MOST_ELEMENTS)
         if not fresh:
             return rows
         kept = not_above(layer, fresh)
         if len(kept) < len(layer):
-            floor = Floor(kept + fresh)
-        layer = sorted(kept + fresh)
+            floor = Floor([packed(situation) for situation in kept] + fresh)
+        layer = sorted(kept + [unpacked(one, machine[1]) for one in fresh])
         rows.append((layer, fresh))
     return None
 
 
 def not_above(situations, fresh):
     """Return the situations that are not above the fresh ones, to which they are not equal."""
-    fewest = min([sum(counts) for _, counts in fresh])
+    fewest = min([sum([count for _, count in pairs]) for _, pairs in fresh])
     floor = Floor(fresh)
     return [
         situation for situation in situations
-        if sum(situation[1]) <= fewest or not floor.is_under(situation)
+        if sum(situation[1]) <= fewest or not floor.is_under(packed(situation))
     ]
 
 
 def fresh_ones(moves, floor, situations, most):
     """Return the least ones of the predecessors of situations that are not above a floor.
 
-    The moves are those of moves_by_target. The floor grows by what is
-    returned. The search ends early if it finds more than the most wanted.
+    All situations are packed, and the moves are those of moves_by_target. The
+    floor grows by what is returned. The search ends early if it finds more
+    than the most that are wanted.
     """
     gatherer = Gatherer(floor, most)
     tasks = tasks_by_threads(moves, situations)
-    # None covers another one with as many threads, or with more: so whatever is
-    # gathered in this order is one of the least ones.
+    # No situation covers another one with as many threads, or with more: so whatever
+    # is gathered in this order is one of the least ones.
     for threads in sorted(tasks):
         for move, situation in tasks[threads]:
             gatherer.gather(move, situation)
@@ -84,11 +86,10 @@ def tasks_by_threads(moves, situations):
     """
     tasks = {}
     for situation in situations:
-        state, counts = situation
-        targets = [place for place, count in enumerate(counts) if count > 0]
-        for target in [None, *targets]:
+        state, pairs = situation
+        for target in [None, *[place for place, _ in pairs]]:
             for move in moves.get((state, target), []):
-                threads = sum(needed(move, counts)) + 1
+                threads = sum(needed(move, pairs).values()) + 1
                 tasks.setdefault(threads, []).append((move, situation))
     return tasks
 
@@ -112,30 +113,38 @@ def moves_by_target(machine):
     return moves
 
 
-def needed(move, counts):
-    """Return the counts that are needed besides the threads that the move itself brings."""
-    need = list(counts)
+def needed(move, pairs):
+    """Return a dict of the counts that are needed besides the threads that a move itself brings."""
+    need = dict(pairs)
     for place in (move[3], move[4]):
-        if place is not None and need[place] > 0:
-            need[place] -= 1
+        if place in need:
+            need = with_added(need, place, -1)
     return need
+
+
+def with_added(need, place, change):
+    """Return a dict of the counts with a change at a place. Counts that are 0 are left out."""
+    more = dict(need)
+    count = more.pop(place, 0) + change
+    if count > 0:
+        more[place] = count
+    return more
 
 
 def taken_apart(need, shifts):
     """Take what must be divided out of the needs, and return it as groups (many, places)."""
     sources = {}
     for first, second in shifts:
-        sources.setdefault(second, []).append(first)
+        if second in need:
+            sources.setdefault(second, []).append(first)
     groups = []
     for second, firsts in sources.items():
-        if need[second] > 0:
-            groups.append((need[second], [*firsts, second]))
-            need[second] = 0
+        groups.append((need.pop(second), [*firsts, second]))
     return groups
 
 
 class Gatherer:
-    """Gathers predecessors that are not above a floor.
+    """Gathers predecessors, packed, that are not above a floor.
 
     What is gathered between two calls of settle has the same number of threads.
     """
@@ -152,8 +161,7 @@ class Gatherer:
 
     def settle(self):
         """Make what was gathered a part of the floor."""
-        for state, counts in self.batch:
-            situation = (state, list(counts))
+        for situation in self.batch:
             self.found.append(situation)
             self.floor.keep(situation)
         self.batch = {}
@@ -161,33 +169,32 @@ class Gatherer:
     def gather(self, move, situation):
         """Gather the predecessors of a situation by a move, which is given as its tuple."""
         state, place, next_state, _, _, shifts = move
-        if situation[0] != next_state or self.is_full():
+        if situation[0] != next_state:
             return
         need = needed(move, situation[1])
-        if sum([need[first] for first, _ in shifts]) > 0:
+        if any([first in need for first, _ in shifts]):
             return
         groups = taken_apart(need, shifts)
-        need[place] += 1
-        if not self.floor.is_under((state, need)):
-            self.divide(state, need, groups)
+        self.divide(state, with_added(need, place, 1), groups)
 
-    def divide(self, state, counts, groups):
-        """Gather the counts together with each division of each group (many, places).
+    def divide(self, state, need, groups):
+        """Gather the needs together with each division of each group (many, places).
 
-        The counts alone are not above the floor.
+        Return False if the needs alone are above the floor, or nothing more is wanted.
         """
+        situation = (state, tuple(sorted(need.items())))
+        if self.is_full() or self.floor.is_under(situation):
+            return False
         if not groups:
-            self.batch[(state, tuple(counts))] = True
-            return
+            self.batch[situation] = True
+            return True
         many, places = groups[0]
         fewest = many if len(places) == 1 else 0
         for few in range(fewest, many + 1):
-            more = list(counts)
-            more[places[0]] += few
-            # If this is above the floor, so is everything with still more threads here.
-            if self.is_full() or self.floor.is_under((state, more)):
-                return
             rest = groups[1:]
             if few < many:
                 rest = [(many - few, places[1:]), *rest]
-            self.divide(state, more, rest)
+            # With still more threads at this place it would be above the floor, too.
+            if not self.divide(state, with_added(need, places[0], few), rest):
+                break
+        return True

@@ -1,7 +1,7 @@
 """Certificates: lists of situations that show what no run can reach."""
 
 from legion.back import fresh_ones, moves_by_target
-from legion.floor import Floor
+from legion.floor import Floor, packed
 from legion.order import least_ones
 
 
@@ -9,10 +9,10 @@ def is_certificate(machine, bad, chosen):
     """Return True if chosen is a certificate for the bad situations, otherwise False."""
     # A predecessor of a situation covers one of each situation that this one
     # covers: so the least ones are enough.
-    least = least_ones(chosen)
+    least = [packed(situation) for situation in least_ones(chosen)]
     floor = Floor(least)
     for situation in bad:
-        if not floor.is_under(situation):
+        if not floor.is_under(packed(situation)):
             return False
     return not fresh_ones(moves_by_target(machine), floor, least, 0)
 

@@ -1,8 +1,27 @@
-"""Situations that are kept so that it is quickly told which other ones cover one of them."""
+"""Situations that are kept so that it is quickly told which other ones cover one of them.
+
+A packed situation is a tuple (state, pairs) with a pair (place, count) for each place
+that has threads, by ascending places. Most places of a situation have none.
+"""
+
+
+def packed(situation):
+    """Return the packed form of a situation."""
+    state, counts = situation
+    return (state, tuple([(place, count) for place, count in enumerate(counts) if count > 0]))
+
+
+def unpacked(situation, places):
+    """Return the situation that has this packed form, given the number of places."""
+    state, pairs = situation
+    counts = [0] * places
+    for place, count in pairs:
+        counts[place] = count
+    return (state, counts)
 
 
 class Floor:
-    """Situations, and whether another one covers one of them.
+    """Packed situations, and whether another one covers one of them.
 
     For each shared state there is a tree. A node leads from a place, and from
     the count that is needed there, to the node of the needs at later places.
@@ -16,38 +35,33 @@ class Floor:
 
     def keep(self, situation):
         """Keep one more situation, which covers none of those that are kept."""
-        state, counts = situation
+        state, pairs = situation
         holder = self.trees
         key = state
-        for place, count in enumerate(counts):
-            if count > 0:
-                node = holder.setdefault(key, {})
-                holder = node.setdefault(place, {})
-                key = count
+        for place, count in pairs:
+            node = holder.setdefault(key, {})
+            holder = node.setdefault(place, {})
+            key = count
         # What stood behind this node covers the situation, and is not needed any more.
         holder[key] = {}
 
     def is_under(self, situation):
         """Return True if a situation covers one of those that are kept, otherwise False."""
-        state, counts = situation
-        if state not in self.trees:
-            return False
-        places = [place for place, count in enumerate(counts) if count > 0]
-        return meets(self.trees[state], counts, places, 0)
+        state, pairs = situation
+        return state in self.trees and meets(self.trees[state], pairs, 0)
 
 
-def meets(node, counts, places, first):
-    """Return True if counts meet all needs on some way from a node to an end.
+def meets(node, pairs, first):
+    """Return True if pairs meet all needs on some way from a node to an end.
 
-    places are those with threads, in ascending order; the needs are at the
-    first of these that is given by its index, and behind it.
+    Only the pair at the index first and those behind it are looked at.
     """
     if not node:
         return True
-    for at in range(first, len(places)):
-        place = places[at]
+    for at in range(first, len(pairs)):
+        place, count = pairs[at]
         if place in node:
             for need, inner in node[place].items():
-                if need <= counts[place] and meets(inner, counts, places, at + 1):
+                if need <= count and meets(inner, pairs, at + 1):
                     return True
     return False

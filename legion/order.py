@@ -1,6 +1,6 @@
 """The order of situations: which ones cover others, and which are the least ones."""
 
-from legion.floor import Floor
+from legion.floor import Floor, packed
 
 
 def covers(first, second):
@@ -16,17 +16,19 @@ def covers(first, second):
 def least_ones(situations):
     """Return the situations that cover no other one, each once, in ascending order."""
     by_threads = {}
-    for state, counts in situations:
-        by_threads.setdefault(sum(counts), {})[(state, tuple(counts))] = True
+    for situation in situations:
+        rivals = by_threads.setdefault(sum(situation[1]), {})
+        rivals[packed(situation)] = situation
     least = []
     floor = Floor([])
     # A situation has more threads than each other one that it covers.
     for threads in sorted(by_threads):
-        rivals = [(state, list(counts)) for state, counts in by_threads[threads]]
-        fresh = [situation for situation in rivals if not floor.is_under(situation)]
-        for situation in fresh:
-            floor.keep(situation)
-        least.extend(fresh)
+        rivals = by_threads[threads]
+        fresh = [one for one in rivals if not floor.is_under(one)]
+        for one in fresh:
+            floor.keep(one)
+            state, counts = rivals[one]
+            least.append((state, list(counts)))
     return sorted(least)
 
 

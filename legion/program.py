@@ -107,6 +107,15 @@ def crew_kind(program):
     return [kind[1] for kind in program[3]].index(None)
 
 
+def fresh_copy(part):
+    """Return a copy of a valid program, or of a part of one, with lists of its own."""
+    if isinstance(part, list):
+        return [fresh_copy(inner) for inner in part]
+    if isinstance(part, tuple):
+        return tuple([fresh_copy(inner) for inner in part])
+    return part
+
+
 def number_of_values(variable):
     """Return the number of the values that a variable can have."""
     return variable[2] - variable[1] + 1

@@ -119,6 +119,38 @@ class ProgramMaker(Roller):
         return (self.pick(["=", "<", "<="]), self.value(1), self.value(1))
 
 
+class LockMaker(ProgramMaker):
+    """Makes one valid program whose threads do little but take locks, several at once."""
+
+    def tried(self):
+        """A program that uses its locks properly, but may be too large."""
+        self.shares = SHARES[: self.roll(2)]
+        self.locks = ["d", "b", "c", "a"][: 2 + self.roll(3)]
+        self.bells, self.locals = [], []
+        many = 1 + self.roll(2)
+        crew = self.roll(many)
+        self.kinds = KINDS[:many]
+        kinds = []
+        for at, name in enumerate(self.kinds):
+            count = None if at == crew else self.roll(3)
+            parts = [self.locking() for _ in range(1 + self.roll(3))]
+            body = [statement for part in parts for statement in part]
+            kinds.append((name, count, [], body))
+        return (list(self.shares), list(self.locks), [], kinds)
+
+    def locking(self):
+        """Statements that take a few locks one within another."""
+        taken = []
+        for _ in range(2 + self.roll(2)):
+            lock = self.pick(self.locks)
+            if lock not in taken:
+                taken.append(lock)
+        inner = [self.plain()] if self.roll(3) == 0 else []
+        part = [("acquire", lock) for lock in taken] + inner
+        part += [("release", lock) for lock in reversed(taken)]
+        return [("choose", [part, []])] if self.roll(4) == 0 else part
+
+
 def programs(many, seed=1):
     """So many valid programs."""
     return [ProgramMaker(seed * 1000003 + at).made() for at in range(many)]

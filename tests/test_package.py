@@ -53,6 +53,16 @@ INTERFACE = {
         "wide_covers": ["first", "second"], "wide_after": ["machine", "situation", "move"],
         "explore": ["machine", "*", "fuel"], "is_closed": ["machine", "chosen"],
     },
+    "questions": {
+        "broken_situations": ["program"], "mark_situations": ["program", "first", "second"],
+        "race_situations": ["program", "share"], "knot_situations": ["program"],
+    },
+    "tale": {"tell_run": ["program", "crew", "run"]},
+    "repair": {
+        "enclosed": ["program", "kind", "first", "last", "name"],
+        "find_repair": ["program", "share", "*", "fuel=60"],
+    },
+    "desk": {"Desk": ["program"]},
 }
 
 METHODS = {
@@ -60,6 +70,7 @@ METHODS = {
         "state_number": ["self", "values", "held"], "state_values": ["self", "number"],
         "place_number": ["self", "kind", "point", "values"], "place_values": ["self", "number"],
     },
+    "Desk": {"ask": ["self", "command"]},
 }
 
 ALLOWED_FROM_OUTSIDE = ["heapq", "math", "itertools", "collections"]
