@@ -1,9 +1,9 @@
 """Answers: whether threads can reach bad situations, and how."""
 
-from legion.back import searched
+from legion.back import Search, searched
 from legion.certificate import least_crew
 from legion.errors import NotPossible
-from legion.floor import Floor, packed
+from legion.floor import Floor, packed, unpacked
 from legion.order import is_above
 from legion.runs import after, possible_moves, start_with
 
@@ -29,6 +29,21 @@ def decide(machine, bad, *, fuel=100):
         return ("never", basis)
     run = run_down(machine, [fresh for _, fresh in rows], start_with(machine, crew))
     return ("possible", crew, run, basis)
+
+
+def is_never(machine, bad, fuel):
+    """Return True if the answer to a list of bad situations is "never", otherwise False.
+
+    This takes less time than the whole answer if it is "possible".
+    """
+    search = Search(machine, bad)
+    for _ in range(fuel):
+        fresh = [unpacked(one, machine[1]) for one in search.fresh]
+        if search.is_too_long() or least_crew(machine, fresh) is not None:
+            return False
+        if not search.advance():
+            return True
+    return False
 
 
 def news_of(found):

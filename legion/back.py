@@ -2,7 +2,7 @@
 
 from legion.errors import OutOfRange
 from legion.floor import Floor, packed, unpacked
-from legion.order import least_ones
+from legion.order import some_least_ones
 from legion.runs import copied, move_at
 
 MOST_ELEMENTS = 2000
@@ -31,24 +31,44 @@ def searched(machine, bad, fuel):
     """
     if fuel < 0:
         raise OutOfRange("there is no fuel below 0")
-    moves = moves_by_target(machine)
-    layer = least_ones(bad)
-    fresh = [packed(situation) for situation in layer]
-    floor = Floor(fresh)
-    rows = [(layer, fresh)]
+    search = Search(machine, bad)
+    rows = [(search.layer, search.fresh)]
     for _ in range(fuel):
-        if len(layer) > MOST_ELEMENTS:
+        if search.is_too_long():
             return None
-        # The predecessors of what is not new are above this layer already.
-        fresh = fresh_ones(moves, floor, fresh, MOST_ELEMENTS)
-        if not fresh:
+        if not search.advance():
             return rows
-        kept = not_above(layer, fresh)
-        if len(kept) < len(layer):
-            floor = Floor([packed(situation) for situation in kept] + fresh)
-        layer = sorted(kept + [unpacked(one, machine[1]) for one in fresh])
-        rows.append((layer, fresh))
+        rows.append((search.layer, search.fresh))
     return None
+
+
+class Search:
+    """The layers of bad situations, one after the other."""
+
+    def __init__(self, machine, bad):
+        self.places = machine[1]
+        self.moves = moves_by_target(machine)
+        self.layer = sorted(some_least_ones(bad, MOST_ELEMENTS))
+        # What is new in this layer, packed.
+        self.fresh = [packed(situation) for situation in self.layer]
+        self.floor = Floor(self.fresh)
+
+    def is_too_long(self):
+        """Return True if the layer has too many elements. Then it need not be whole."""
+        return len(self.layer) > MOST_ELEMENTS
+
+    def advance(self):
+        """Go on to the next layer. Return False, and stay, if it is equal to this one."""
+        # The predecessors of what is not new are above this layer already.
+        fresh = fresh_ones(self.moves, self.floor, self.fresh, MOST_ELEMENTS)
+        if not fresh:
+            return False
+        kept = not_above(self.layer, fresh)
+        if len(kept) < len(self.layer):
+            self.floor = Floor([packed(situation) for situation in kept] + fresh)
+        self.layer = sorted(kept + [unpacked(one, self.places) for one in fresh])
+        self.fresh = fresh
+        return True
 
 
 def not_above(situations, fresh):

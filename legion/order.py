@@ -15,21 +15,29 @@ def covers(first, second):
 
 def least_ones(situations):
     """Return the situations that cover no other one, each once, in ascending order."""
+    return sorted(some_least_ones(situations, None))
+
+
+def some_least_ones(situations, most):
+    """Return the least ones, in any order; or only some of them if there are more than the most."""
     by_threads = {}
     for situation in situations:
-        rivals = by_threads.setdefault(sum(situation[1]), {})
-        rivals[packed(situation)] = situation
+        by_threads.setdefault(sum(situation[1]), []).append(situation)
     least = []
     floor = Floor([])
     # A situation has more threads than each other one that it covers.
     for threads in sorted(by_threads):
-        rivals = by_threads[threads]
-        fresh = [one for one in rivals if not floor.is_under(one)]
+        fresh = {}
+        for situation in by_threads[threads]:
+            one = packed(situation)
+            if one not in fresh and not floor.is_under(one):
+                fresh[one] = True
+                least.append((situation[0], list(situation[1])))
+                if most is not None and len(least) > most:
+                    return least
         for one in fresh:
             floor.keep(one)
-            state, counts = rivals[one]
-            least.append((state, list(counts)))
-    return sorted(least)
+    return least
 
 
 def is_above(situation, basis):

@@ -12,7 +12,8 @@ def broken_situations(program):
     """Return the situations with a thread at a broken point."""
     layout = Layout(program)
     points = [(at, points_of(kind)[2]) for at, kind in enumerate(program[3])]
-    return in_all_states(layout, [[place] for place in places_at(layout, points)])
+    choices = [(place,) for place in places_at(layout, points)]
+    return with_threads(layout, [choices for _ in range(layout.states)])
 
 
 def mark_situations(program, first, second):
@@ -20,24 +21,28 @@ def mark_situations(program, first, second):
     layout = Layout(program)
     places = places_at(layout, points_with_mark(program, first))
     others = places_at(layout, points_with_mark(program, second))
-    return in_all_states(layout, pairs_of(places, others))
+    choices = pairs_of(places, others)
+    return with_threads(layout, [choices for _ in range(layout.states)])
 
 
 def race_situations(program, share):
     """Return the situations in which two threads race on a share."""
     check_share(program, share)
+    return races_of(program, compile_program(program), share)
+
+
+def races_of(program, machine, share):
+    """Return the situations of race_situations, given the machine of the program, too."""
     layout = Layout(program)
     places = places_at(layout, points_where(program, share, accesses))
     setters = places_at(layout, points_where(program, share, sets))
-    machine = compile_program(program)
     moving = {(move[0], move[1]): True for move in machine[4]}
-    found = []
+    choices_by_state = []
     for state in range(layout.states):
         ready = [place for place in places if (state, place) in moving]
         setting = [place for place in setters if (state, place) in moving]
-        for pair in pairs_of(setting, ready):
-            found.append((state, counts_of(layout, pair)))
-    return least_ones(found)
+        choices_by_state.append(pairs_of(setting, ready))
+    return with_threads(layout, choices_by_state)
 
 
 def knot_situations(program):
@@ -78,18 +83,23 @@ def counts_of(layout, places):
 
 
 def pairs_of(places, others):
-    """Return the ascending pairs of one of the places and one of the others, each once."""
+    """Return the pairs of one of the places and one of the others, each once."""
     pairs = [(min(one, other), max(one, other)) for one in places for other in others]
     return sorted(set(pairs))
 
 
-def in_all_states(layout, choices):
-    """Return the least ones of the situations with threads at chosen places."""
-    return least_ones([
-        (state, counts_of(layout, places))
-        for state in range(layout.states)
-        for places in choices
-    ])
+def with_threads(layout, choices_by_state):
+    """Return, in ascending order, the situations with threads at the places of a choice.
+
+    There is a list of choices for each shared state. Each choice is an ascending
+    tuple, and all are equally long: so no situation covers another one.
+    """
+    found = []
+    for state, choices in enumerate(choices_by_state):
+        # The earlier a place, the more it counts when situations are compared.
+        for places in sorted(choices, reverse=True):
+            found.append((state, counts_of(layout, places)))
+    return found
 
 
 def points_with_mark(program, mark):

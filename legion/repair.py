@@ -1,10 +1,10 @@
 """Repairs: statements that are enclosed with a new lock."""
 
-from legion.answer import decide
+from legion.answer import is_never
 from legion.errors import BadProgram, OutOfRange
 from legion.machine import compile_program
 from legion.program import crew_kind, fresh_copy
-from legion.questions import check_share, race_situations
+from legion.questions import check_share, races_of
 
 GUARD = "guard"
 
@@ -39,4 +39,4 @@ def has_no_race(program, share, fuel):
         machine = compile_program(program)
     except BadProgram:
         return False
-    return decide(machine, race_situations(program, share), fuel=fuel)[0] == "never"
+    return is_never(machine, races_of(program, machine, share), fuel)

@@ -3,7 +3,7 @@
 import copy
 import unittest
 
-from legion.answer import decide, shortest_run
+from legion.answer import decide, is_never, shortest_run
 from legion.back import layers
 from legion.certificate import is_certificate, least_crew
 from legion.errors import NotPossible, OutOfRange
@@ -112,6 +112,8 @@ class Decide(unittest.TestCase):
         self.assertEqual(decide(DOWN, PAIR, fuel=5)[0], "possible")
         bad = [(0, [count, 2000 - count, 0]) for count in range(2001)]
         self.check(DOWN, bad, ("unknown",), 10 ** 6)
+        self.check(DOWN, bad + [(0, [3000, 3000, 0])], ("unknown",), 10 ** 6)
+        self.assertIs(is_never(DOWN, bad, 10 ** 6), False)
         self.check(DOWN, [(0, [2000, 0, 0])], ("unknown",), 10 ** 6)
 
     def test_negative_fuel(self):
@@ -149,6 +151,7 @@ class Decide(unittest.TestCase):
             answer = decide(machine, bad, fuel=6)
             found = layers(machine, bad, fuel=6)
             told[answer[0]] += 1
+            self.assertIs(is_never(machine, bad, 6), answer[0] == "never")
             if found is None:
                 self.assertEqual(answer, ("unknown",))
                 continue
@@ -165,6 +168,7 @@ class Decide(unittest.TestCase):
         for machine, maker in machines(200, seed=30):
             bad = [maker.situation(machine) for _ in range(1 + maker.roll(2))]
             answer = decide(machine, bad, fuel=20)
+            self.assertIs(is_never(machine, bad, 20), answer[0] == "never")
             if answer[0] == "possible":
                 reached = follow(machine, start_with(machine, answer[1]), answer[2])[-1]
                 self.assertTrue(above(reached, bad))

@@ -4,7 +4,7 @@ import copy
 import itertools
 import unittest
 
-from legion.order import covers, is_above, least_ones
+from legion.order import covers, is_above, least_ones, some_least_ones
 from tests.makers import Roller
 from tests.samples import new_lists, spoil
 from tests.slowly import least_by_words
@@ -108,6 +108,20 @@ class LeastOnes(unittest.TestCase):
             spoil(first)
             self.assertEqual(situations, before)
             self.assertEqual(least_ones(situations), second)
+
+    def test_only_some_of_them(self):
+        roller = Roller(29)
+        for _ in range(100):
+            situations = rolled(roller, 30)
+            least = least_ones(situations)
+            for most in range(30):
+                some = some_least_ones(situations, most)
+                if len(least) <= most:
+                    self.assertEqual(sorted(some), least)
+                else:
+                    self.assertEqual(len(some), most + 1)
+                    for one in some:
+                        self.assertIn(one, least)
 
     def test_kinds_of_values(self):
         least = least_ones([(0, [1]), (1, [0])])
