@@ -73,7 +73,7 @@ class Search:
 
 def not_above(situations, fresh):
     """Return the situations that are not above the fresh ones, to which they are not equal."""
-    fewest = min([sum([count for _, count in pairs]) for _, pairs in fresh])
+    fewest = min([sum(dict(pairs).values()) for _, pairs in fresh])
     floor = Floor(fresh)
     return [
         situation for situation in situations
@@ -107,7 +107,8 @@ def tasks_by_threads(moves, situations):
     tasks = {}
     for situation in situations:
         state, pairs = situation
-        for target in [None, *[place for place, _ in pairs]]:
+        targets = [None] + [place for place, _ in pairs]
+        for target in targets:
             for move in moves.get((state, target), []):
                 threads = sum(needed(move, pairs).values()) + 1
                 tasks.setdefault(threads, []).append((move, situation))

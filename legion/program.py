@@ -125,7 +125,7 @@ def combinations_of(variables):
     """Return in how many ways variables can have their values."""
     ways = 1
     for variable in variables:
-        ways *= number_of_values(variable)
+        ways = ways * number_of_values(variable)
     return ways
 
 
